@@ -1,0 +1,1 @@
+"""Thinnets: nets of ties with lengths, thinned so that no way grows too long."""
