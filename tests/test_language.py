@@ -29,6 +29,11 @@ NEVER = """register mro elements open input version_info with_traceback add_note
 DOUBLE = "__init__ __eq__ __repr__ __str__ __len__".split()
 BUILT_IN = set(dir(builtins))
 WALKED = "zip enumerate reversed range".split()
+WALKERS = "list tuple dict sorted sum any all enumerate zip min max join".split()
+KEYWORDS = [("sorted", "key"), ("sorted", "reverse"), ("min", "key"), ("max", "key"), ("min", "default"),
+            ("max", "default"), ("sum", "start"), ("enumerate", "start"), ("zip", "strict")]
+SEEKING = """far way_of round_of least_ways prices_from thinned greedy_paper ways_paper least_tree tree_paper tree_from
+    light_tree keeps_pairs thinned_for_pairs pairs_paper""".split()
 
 
 def files():
@@ -51,6 +56,11 @@ def top_names(body):
     """The names that a file binds itself at its top."""
     parts = [part for node in body for part in [node, *getattr(node, "targets", [])]]
     return [name for part in parts for name in bound_names(part)]
+
+
+def called(call):
+    """The name that a call calls, as a function or as a method."""
+    return getattr(call.func, "id", getattr(call.func, "attr", None))
 
 
 class Language(unittest.TestCase):
@@ -154,6 +164,66 @@ class Language(unittest.TestCase):
                 for sign, value in zip(node.ops, node.comparators):
                     if isinstance(sign, (ast.Is, ast.IsNot)):
                         self.assertTrue(isinstance(value, ast.Constant) and value.value in (None, True, False), where)
+
+    def test_no_local_is_called_like_an_import_or_a_class(self):
+        for path in files():
+            body = ast.parse(path.read_text()).body
+            taken = [alias.name for node in body if isinstance(node, ast.ImportFrom) for alias in node.names]
+            taken += [node.name for node in body if isinstance(node, ast.ClassDef)]
+            for top in body:
+                for node in ast.walk(top):
+                    if node is not top:
+                        self.assertFalse(set(bound_names(node)) & set(taken), (path.name, node.__class__))
+
+    def test_no_two_files_draw_from_one_another(self):
+        drawn = {}
+        for path in files():
+            rows = [node for node in ast.parse(path.read_text()).body if isinstance(node, ast.ImportFrom)]
+            drawn[path.stem] = {node.module.split(".")[1] for node in rows}
+        while drawn:
+            ends = [name for name in drawn if not drawn[name] & set(drawn)]
+            self.assertNotEqual(ends, [], sorted(drawn))
+            for name in ends:
+                drawn.pop(name)
+
+    def test_checkers_seek_no_way_and_thin_no_net(self):
+        for name in ("checking", "pairchecking"):
+            path = PACKAGE / f"{name}.py"
+            if path.exists():
+                rows = [node for node in ast.parse(path.read_text()).body if isinstance(node, ast.ImportFrom)]
+                names = {alias.name for node in rows for alias in node.names}
+                self.assertFalse(names & set(SEEKING), name)
+
+    def test_powers_have_written_exponents(self):
+        for where, node in self.walk():
+            if isinstance(node, ast.BinOp) and isinstance(node.op, ast.Pow):
+                self.assertTrue(isinstance(node.right, ast.Constant) and 0 <= node.right.value <= 64, where)
+
+    def test_keywords(self):
+        for where, node in self.walk():
+            if isinstance(node, ast.Call):
+                for keyword in node.keywords:
+                    self.assertIn((getattr(node.func, "id", None), keyword.arg), KEYWORDS, where)
+
+    def test_walked_on_the_spot(self):
+        for path in files():
+            for node in ast.walk(ast.parse(path.read_text())):
+                for child in ast.iter_child_nodes(node):
+                    if isinstance(child, ast.Call) and called(child) in WALKED + ["items", "keys", "values"]:
+                        walking = isinstance(node, (ast.For, ast.comprehension)) and node.iter is child
+                        within = isinstance(node, ast.Call) and called(node) in WALKERS and node.args[0] is child
+                        self.assertTrue(walking or within, (path.name, child.lineno))
+                    if isinstance(child, ast.Call) and called(child) in ("set", "frozenset"):
+                        within = isinstance(node, ast.Call) and called(node) in ("sorted", "len")
+                        self.assertTrue(within or isinstance(node, (ast.Compare, ast.BinOp)), (path.name, child.lineno))
+
+    def test_errors_are_made_on_the_spot(self):
+        for where, node in self.walk():
+            if isinstance(node, ast.Raise):
+                self.assertIsInstance(node.exc, ast.Call, where)
+            if isinstance(node, ast.ExceptHandler):
+                self.assertIsNotNone(node.type, where)
+                self.assertNotIn(getattr(node.type, "id", None), ("Exception", "TypeError"), where)
 
     def test_walked_at_once_and_no_sets_kept(self):
         for where, node in self.walk():

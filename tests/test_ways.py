@@ -1,44 +1,12 @@
 import unittest
-from itertools import combinations, permutations, product
+from itertools import permutations, product
 
-from samples import EMPTY, NET, STRANGE, full_net, kept_as_it_was, spoiled
+from plainly import all_least, is_round
+from samples import EMPTY, FOUR, NET, STRANGE, full_net, kept_as_it_was, nets_of, ring, spoiled
 from thinnet.nets import is_net
 from thinnet.ways import far, length_of, round_of, way_of
 
-FOUR = ("a", "b", "c", "d")
 FIVE = ("a", "b", "c", "d", "e")
-
-
-def nets_of(places, lengths):
-    """All nets of these places whose ties have these lengths, 0 for no tie."""
-    pairs = list(combinations(places, 2))
-    for chosen in product(lengths, repeat=len(pairs)):
-        yield (places, tuple((a, b, length) for (a, b), length in zip(pairs, chosen) if length))
-
-
-def lengths_of(net):
-    """The lengths of ties by their two places, both ways about."""
-    lengths = {(a, b): length for a, b, length in net[1]}
-    lengths.update({(b, a): length for a, b, length in net[1]})
-    return lengths
-
-
-def all_least(net):
-    """The least lengths between all places, place by place let in between."""
-    least = lengths_of(net)
-    least.update({(place, place): 0 for place in net[0]})
-    for mid, a, b in product(net[0], repeat=3):
-        if (a, mid) in least and (mid, b) in least:
-            length = least[(a, mid)] + least[(mid, b)]
-            least[(a, b)] = min(length, least.get((a, b), length))
-    return least
-
-
-def is_round(net, thing):
-    if type(thing) is not tuple or len(thing) < 3 or len(set(thing)) < len(thing):
-        return False
-    lengths = lengths_of(net)
-    return all((a, b) in lengths for a, b in zip(thing, thing[1:] + thing[:1]))
 
 
 def fewest_in_a_round(net):
@@ -47,11 +15,6 @@ def fewest_in_a_round(net):
         if any(is_round(net, row) for row in permutations(net[0], many)):
             return many
     return None
-
-
-def ring(places, length=1):
-    ends = sorted(tuple(sorted(pair)) for pair in zip(places, places[1:] + places[:1]))
-    return (tuple(sorted(places)), tuple((a, b, length) for a, b in ends))
 
 
 class LengthOf(unittest.TestCase):
@@ -183,6 +146,12 @@ class Rounds(unittest.TestCase):
         heavy = [("a", "b", 10 ** 6), ("a", "c", 10 ** 6), ("b", "c", 10 ** 6)]
         light = [("d", "e", 1), ("d", "g", 1), ("e", "f", 1), ("f", "g", 1)]
         self.looks_right((tuple("abcdefg"), tuple(heavy + light)), 3)
+
+    def test_fewest_ties_though_each_has_a_lesser_way_about(self):
+        # Between each two of a, b, c a tie of 10, and a way of three ties of 1.
+        heavy = [("a", "b", 10), ("a", "c", 10), ("b", "c", 10)]
+        light = [tuple(sorted(pair)) + (1,) for pair in ("ad", "de", "eb", "bf", "fg", "gc", "ch", "hi", "ia")]
+        self.looks_right((tuple("abcdefghi"), tuple(sorted(heavy + light))), 3)
 
     def test_several_of_unlike_sizes_apart(self):
         small = ring(tuple("vwxyz"))

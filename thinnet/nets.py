@@ -94,10 +94,25 @@ def only(net, ties):
     return (net[0], tuple(sorted(ties)))
 
 
+# A tie that equals one of the net may still be of another kind: True equals 1.
+def is_tie_of(net, thing):
+    return thing in net[1] and is_whole(thing[2])
+
+
+# Held against the net alone, not against the bounds of nets: a net may lie somewhat beyond these.
 def is_thin(net, thing):
-    if not is_net(thing):
+    if not is_tuple_of(2, thing) or not isinstance(thing[1], tuple):
         return False
-    return thing[0] == net[0] and all([tie in net[1] for tie in thing[1]])
+    return thing[0] == net[0] and all([is_tie_of(net, tie) for tie in thing[1]]) and is_rising(thing[1])
+
+
+# The net with just those of its ties that go ahead of this one in order.
+def ahead_of(net, tie):
+    return only(net, [other for other in net[1] if rank_of(other) < rank_of(tie)])
+
+
+def without(net, tie):
+    return only(net, [other for other in net[1] if other != tie])
 
 
 def left_out(net, thin):

@@ -1,6 +1,6 @@
 """Ways of a net: how long they are, the least ones, and rounds."""
 
-from thinnet.nets import steps_of
+from thinnet.nets import only, steps_of, without
 
 
 def length_of(net, thing):
@@ -17,6 +17,14 @@ def length_of(net, thing):
         if there not in steps[here]:
             return None
         length += steps[here][there]
+    return length
+
+
+# The length of the way, or None where the thing is no way of the net from a to b.
+def length_between(net, a, b, thing):
+    length = length_of(net, thing)
+    if length is None or thing[0] != a or thing[-1] != b:
+        return None
     return length
 
 
@@ -63,11 +71,10 @@ def way_of(net, a, b):
 # A round is a tie and a way between its places without it. With all lengths
 # alike, the least of these ways is one of the fewest ties, and no place comes twice.
 def round_of(net):
-    steps = [(a, b, 1) for a, b, length in net[1]]
+    alike = only(net, [(a, b, 1) for a, b, length in net[1]])
     fewest = None
-    for step in steps:
-        others = tuple([other for other in steps if other != step])
-        way = way_of((net[0], others), step[0], step[1])
+    for tie in alike[1]:
+        way = way_of(without(alike, tie), tie[0], tie[1])
         if way is not None and (fewest is None or len(way) < len(fewest)):
             fewest = way
     return fewest

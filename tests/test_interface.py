@@ -1,0 +1,33 @@
+"""All that the interface names is there, and takes its arguments by place."""
+
+import importlib
+import inspect
+import unittest
+
+FUNCTIONS = {
+    "nets": {
+        "is_name": 1, "is_times": 1, "is_net": 1, "order_of": 1, "ties_at": 2, "only": 2, "is_thin": 2, "left_out": 2,
+        "total": 1,
+    },
+    "ways": {"length_of": 2, "far": 3, "way_of": 3, "round_of": 1},
+    "prices": {"is_fair": 2, "prices_from": 3},
+    "thinning": {"is_within": 3, "thinned": 2, "greedy_paper": 2, "ways_paper": 3},
+    "checking": {"lets_greedy": 4, "lets_ways": 4},
+    "trees": {"least_tree": 1, "tree_paper": 1, "lets_tree": 3},
+}
+
+
+class Interface(unittest.TestCase):
+    def test_names_and_arguments(self):
+        for module, functions in FUNCTIONS.items():
+            found = importlib.import_module(f"thinnet.{module}")
+            for name, many in functions.items():
+                function = getattr(found, name)
+                self.assertEqual(function.__module__, found.__name__)
+                inspect.signature(function).bind(*[None] * many)
+                with self.assertRaises(TypeError):
+                    inspect.signature(function).bind(*[None] * (many + 1))
+
+
+if __name__ == "__main__":
+    unittest.main()
