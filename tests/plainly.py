@@ -1,6 +1,7 @@
 """The document's points told once more, by other means than the program's, for tests to hold it against."""
 
 from fractions import Fraction
+from functools import lru_cache
 from itertools import permutations, product
 
 
@@ -11,14 +12,17 @@ def lengths_of(net):
     return lengths
 
 
+@lru_cache(maxsize=500)
 def all_least(net):
-    """The least lengths between all places, place by place let in between."""
+    """The least lengths between all places, place by place let in between. (It is only read.)"""
     least = lengths_of(net)
     least.update({(place, place): 0 for place in net[0]})
-    for mid, a, b in product(net[0], repeat=3):
-        if (a, mid) in least and (mid, b) in least:
+    for mid in net[0]:
+        joined = [place for place in net[0] if (mid, place) in least]
+        for a, b in product(joined, repeat=2):
             length = least[(a, mid)] + least[(mid, b)]
-            least[(a, b)] = min(length, least.get((a, b), length))
+            if (a, b) not in least or length < least[(a, b)]:
+                least[(a, b)] = length
     return least
 
 
@@ -109,10 +113,15 @@ def keeps(net, times, thin):
 
 
 def pieces_of(net):
-    least = all_least(net)
-    return {tuple(b for b in net[0] if (a, b) in least) for a in net[0]}
+    """The places of each piece: a tie puts two pieces together."""
+    pieces = {(place,) for place in net[0]}
+    for a, b, length in net[1]:
+        met = {piece for piece in pieces if a in piece or b in piece}
+        pieces = pieces - met | {tuple(sorted(sum(met, ())))}
+    return pieces
 
 
+@lru_cache(maxsize=500)
 def least_tree_plainly(net):
     """Tie by tie from the last one in order, each one goes without which as much is joined."""
     tree = net
@@ -175,3 +184,72 @@ def judged_tree(net, thin, paper):
         return "way" if way_length(ahead(thin, tie), tie[0], tie[1], thing) is None else None
 
     return first_of(word(tie, thing) for tie, thing in zip(out_of(net, thin), paper))
+
+
+def is_tree_plainly(net, place, thing):
+    """By what point 32 says of its own: no round, and each tie of the one piece that the place is in."""
+    if not is_thin_of(net, thing):
+        return False
+    reached = next(piece for piece in pieces_of(net) if place in piece)
+    lone = {(other,) for other in net[0] if other not in reached}
+    if any(a not in reached or b not in reached for a, b, length in thing[1]):
+        return False
+    return pieces_of(thing) == {reached} | lone and len(thing[1]) == len(reached) - 1
+
+
+def keeps_for(net, times, pairs, thin):
+    least = all_least(net)
+    by_thin = all_least(thin)
+    joined = [pair for pair in pairs if pair in least]
+    return all(pair in by_thin and within(by_thin[pair], times, least[pair]) for pair in joined)
+
+
+def thinned_for_pairs_plainly(net, times, pairs):
+    gone = []
+    for tie in in_order(net[1])[::-1]:
+        if keeps_for(net, times, pairs, (net[0], tuple(sorted(set(net[1]) - {tie, *gone})))):
+            gone.append(tie)
+    return (net[0], tuple(sorted(set(net[1]) - set(gone))))
+
+
+def is_shown_plainly(net, times, pair, thin, thing):
+    if type(thing) is not tuple or not thing or repr(thing[0]) not in ("'near'", "'apart'"):
+        return False
+    if thing[0] == "near":
+        if len(thing) != 3 or not is_fair_by(net, thing[2]):
+            return False
+        length = way_length(thin, *pair, thing[1])
+        return length is not None and within(length, times, gap(net, thing[2], *pair))
+    if len(thing) != 2 or type(thing[1]) is not tuple:
+        return False
+    # Written out, the side is just the places of the net that are in it.
+    if repr(thing[1]) != repr(tuple(place for place in net[0] if place in thing[1])):
+        return False
+    crossing = [tie for tie in net[1] if len({tie[0], tie[1]} & set(thing[1])) == 1]
+    return pair[0] in thing[1] and pair[1] not in thing[1] and not crossing
+
+
+def is_needed_plainly(net, times, pairs, less, thing):
+    if not is_of_kind(tuple, 3, thing) or repr(thing[0]) not in [repr(number) for number in range(len(pairs))]:
+        return False
+    pair = pairs[thing[0]]
+    length = way_length(net, *pair, thing[1])
+    if length is None or not is_fair_by(less, thing[2]):
+        return False
+    return not within(gap(net, thing[2], *pair), times, length)
+
+
+def judged_pairs(net, times, pairs, thin, paper):
+    """What point 37 tells of it: True, or the word and the number of the refusal."""
+    if not is_thin_of(net, thin) or not is_of_kind(tuple, 2, paper):
+        return ("shape", 0)
+    if not is_of_kind(tuple, len(pairs), paper[0]) or not is_of_kind(tuple, len(thin[1]), paper[1]):
+        return ("shape", 0)
+    for number, pair in enumerate(pairs):
+        if not is_shown_plainly(net, times, pair, thin, paper[0][number]):
+            return ("pair", number)
+    for number, tie in enumerate(in_order(thin[1])):
+        less = (thin[0], tuple(other for other in thin[1] if other != tie))
+        if not is_needed_plainly(net, times, pairs, less, paper[1][number]):
+            return ("tie", number)
+    return True

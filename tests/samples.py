@@ -177,3 +177,14 @@ def answer(lets, *things):
     except NoPaper as refused:
         told = (refused.word, refused.number)
     return told if repr(things) == before else "changed what was handed in"
+
+
+def some_pairs(net, start, many):
+    """So many pairs of a net, mixed up, or all where there are fewer."""
+    numbers = mixed_numbers(start)
+    return tuple(sorted(sorted(combinations(net[0], 2), key=lambda pair: next(numbers))[:many]))
+
+
+def put(things, number, thing):
+    """The tuple with this thing in the place of that number."""
+    return things[:number] + (thing,) + things[number + 1:]

@@ -2,8 +2,8 @@ import unittest
 
 from plainly import ahead, all_least, gap, in_order, judged_greedy, judged_ways, keeps, out_of, within
 from samples import (
-    ALIKE, BARE, EMPTY, FOUR, KITE, SMALL_STRANGE, SOME_TIMES, STRANGE, answer, bent, large_nets, put_in, small_nets,
-    spoiled, thin_nets,
+    ALIKE, BARE, EMPTY, FOUR, KITE, SMALL_STRANGE, SOME_TIMES, STRANGE, answer, bent, large_nets, put, put_in,
+    small_nets, spoiled, thin_nets,
 )
 from thinnet.checking import lets_greedy, lets_ways
 from thinnet.nets import only
@@ -21,10 +21,6 @@ IN_CD = ("in", (0, 0, 0, 7))
 OUT_AD = ("out", ("a", "b", "c", "d"))
 PAPER = (IN_AB, IN_BC, OUT_AC, IN_CD, OUT_AD)
 WAYS = (("a", "b", "c"), ("a", "b", "c", "d"))
-
-
-def put(paper, number, entry):
-    return paper[:number] + (entry,) + paper[number + 1:]
 
 
 class Answers(unittest.TestCase):

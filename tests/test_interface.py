@@ -14,6 +14,9 @@ FUNCTIONS = {
     "thinning": {"is_within": 3, "thinned": 2, "greedy_paper": 2, "ways_paper": 3},
     "checking": {"lets_greedy": 4, "lets_ways": 4},
     "trees": {"least_tree": 1, "tree_paper": 1, "lets_tree": 3},
+    "rooted": {"is_tree_from": 3, "tree_from": 2, "light_tree": 3},
+    "pairs": {"keeps_pairs": 4, "thinned_for_pairs": 3, "pairs_paper": 3},
+    "pairchecking": {"lets_pairs": 5},
 }
 
 

@@ -188,11 +188,9 @@ class Language(unittest.TestCase):
 
     def test_checkers_seek_no_way_and_thin_no_net(self):
         for name in ("checking", "pairchecking"):
-            path = PACKAGE / f"{name}.py"
-            if path.exists():
-                rows = [node for node in ast.parse(path.read_text()).body if isinstance(node, ast.ImportFrom)]
-                names = {alias.name for node in rows for alias in node.names}
-                self.assertFalse(names & set(SEEKING), name)
+            body = ast.parse((PACKAGE / f"{name}.py").read_text()).body
+            names = {alias.name for node in body if isinstance(node, ast.ImportFrom) for alias in node.names}
+            self.assertFalse(names & set(SEEKING), name)
 
     def test_powers_have_written_exponents(self):
         for where, node in self.walk():
