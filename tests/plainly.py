@@ -2,7 +2,7 @@
 
 from fractions import Fraction
 from functools import lru_cache
-from itertools import permutations, product
+from itertools import combinations, permutations, product
 
 
 def lengths_of(net):
@@ -253,3 +253,117 @@ def judged_pairs(net, times, pairs, thin, paper):
         if not is_needed_plainly(net, times, pairs, less, paper[1][number]):
             return ("tie", number)
     return True
+
+
+def less_by(net, ties):
+    return (net[0], tuple(tie for tie in net[1] if tie not in ties))
+
+
+def choices(ties, many):
+    """All choices of at most so many of these ties."""
+    return [taken for number in range(many + 1) for taken in combinations(ties, number)]
+
+
+def has_near(net, times, tie):
+    least = all_least(net).get(tie[:2])
+    return least is not None and within(least, times, tie[2])
+
+
+def breakers(net, times, tie, many):
+    """All choices of at most so many ties of the net without which no way between the tie's places is near."""
+    return [taken for taken in choices(net[1], many) if not has_near(less_by(net, taken), times, tie)]
+
+
+def steady_plainly(net, times, many):
+    """The net thinned for many, by all choices of kept ties that are taken away."""
+    kept = (net[0], ())
+    for tie in in_order(net[1]):
+        if breakers(kept, times, tie, many):
+            kept = (net[0], tuple(sorted(kept[1] + (tie,))))
+    return kept
+
+
+def is_steady(net, times, many, thin):
+    for taken in choices(net[1], many):
+        least = all_least(less_by(net, taken))
+        by_thin = all_least(less_by(thin, taken))
+        if not all(pair in by_thin and within(by_thin[pair], times, least[pair]) for pair in least):
+            return False
+    return True
+
+
+def is_bush_plainly(net, times, tie, many, taken, thing):
+    if not is_of_kind(tuple, 2, thing) or judged_way(less_by(net, taken), times, tie, thing[0]) is not None:
+        return False
+    if len(taken) == many:
+        return repr(thing[1]) == "()"
+    steps = [tuple(sorted(step)) for step in zip(thing[0], thing[0][1:])]
+    if not is_of_kind(tuple, len(steps), thing[1]):
+        return False
+    lost = [[other for other in net[1] if other[:2] == step] for step in steps]
+    return all(is_bush_plainly(net, times, tie, many, taken + one, bush) for one, bush in zip(lost, thing[1]))
+
+
+def is_broken_plainly(net, many, thing):
+    return repr(thing) in [repr(tuple(sorted(taken))) for taken in choices(net[1], many)]
+
+
+def judged_breaking(net, times, many, thin, paper):
+    """What point 43 tells of it: True, or the word and the number of the refusal."""
+    if not is_thin_of(net, thin) or not is_of_kind(tuple, len(net[1]), paper):
+        return ("shape", 0)
+
+    def word(tie, thing):
+        before = ahead(thin, tie)
+        if tie in thin[1]:
+            if not is_of_kind(tuple, 3, thing) or thing[0] != "in":
+                return "word"
+            right = is_broken_plainly(before, many, thing[1])
+            return None if right and judged_prices(less_by(before, thing[1]), times, tie, thing[2]) is None else "in"
+        if not is_of_kind(tuple, 2, thing) or thing[0] != "out":
+            return "word"
+        return None if is_bush_plainly(before, times, tie, many, [], thing[1]) else "out"
+
+    return first_of(word(tie, thing) for tie, thing in zip(in_order(net[1]), paper))
+
+
+def least_many(net, times):
+    """How many ties a least thin net has, by all choices of ties."""
+    for many in range(len(net[1]) + 1):
+        if any(keeps(net, times, (net[0], ties)) for ties in combinations(net[1], many)):
+            return many
+
+
+def is_closed(net, times, many, settled, thing):
+    """Whether this case, which is no split, shows it by the ties settled: True as kept, False as left out."""
+    if is_of_kind(tuple, 1, thing):
+        return thing[0] == "enough" and list(settled.values()).count(True) >= many
+    if not is_of_kind(tuple, 3, thing) or thing[0] != "far":
+        return False
+    out = [tie for tie in settled if not settled[tie]]
+    found = [tie for tie in out if repr(tie) == repr(thing[1])]
+    return bool(found) and judged_prices(less_by(net, out), times, found[0], thing[2]) is None
+
+
+def shows_plainly(net, times, many, thing):
+    """What point 46 tells of it: each case is looked at in its turn, with the ties settled ahead of it."""
+    waiting = [(thing, {}, 1)]
+    for case, settled, deep in waiting:
+        if deep > 15 or len(waiting) > 4000:
+            return False
+        if is_of_kind(tuple, 4, case):
+            found = [tie for tie in net[1] if tie not in settled and repr(tie) == repr(case[1])]
+            if case[0] != "split" or not found:
+                return False
+            waiting.append((case[2], {**settled, found[0]: True}, deep + 1))
+            waiting.append((case[3], {**settled, found[0]: False}, deep + 1))
+        elif not is_closed(net, times, many, settled, case):
+            return False
+    return True
+
+
+def is_least_plainly(net, times, thing):
+    """What point 47 tells of it."""
+    if not is_of_kind(tuple, 3, thing) or judged_ways(net, times, thing[0], thing[1]) is not True:
+        return False
+    return shows_plainly(net, times, len(thing[0][1]), thing[2])

@@ -55,7 +55,7 @@ def spoiled_part(part):
 def bent_part(part):
     """Things of the kind of this text, number or tuple, but other ones."""
     if isinstance(part, str):
-        return ["a", "b", "c", "d", "zz", "in", "out", "near", "apart"]
+        return ["a", "b", "c", "d", "zz", "in", "out", "near", "apart", "far", "split", "enough"]
     if isinstance(part, int):
         return [part - 1, part + 1, 2 * part, part + 10 ** 9, 10 ** 39]
     found = [part[::-1], part[:1], part + part, part + part[-1:]]

@@ -17,6 +17,10 @@ FUNCTIONS = {
     "rooted": {"is_tree_from": 3, "tree_from": 2, "light_tree": 3},
     "pairs": {"keeps_pairs": 4, "thinned_for_pairs": 3, "pairs_paper": 3},
     "pairchecking": {"lets_pairs": 5},
+    "steady": {"steady_thinned": 3, "breaking_paper": 3},
+    "breakchecking": {"lets_breaking": 5},
+    "least": {"least_thin": 2},
+    "cases": {"shows": 4, "is_least": 3},
 }
 
 

@@ -33,7 +33,8 @@ WALKERS = "list tuple dict sorted sum any all enumerate zip min max join".split(
 KEYWORDS = [("sorted", "key"), ("sorted", "reverse"), ("min", "key"), ("max", "key"), ("min", "default"),
             ("max", "default"), ("sum", "start"), ("enumerate", "start"), ("zip", "strict")]
 SEEKING = """far way_of round_of least_ways prices_from thinned greedy_paper ways_paper least_tree tree_paper tree_from
-    light_tree keeps_pairs thinned_for_pairs pairs_paper""".split()
+    light_tree keeps_pairs thinned_for_pairs pairs_paper near_way broken_of steady_thinned bush_of breaking_paper fewest_of
+    least_thin""".split()
 
 
 def files():
@@ -187,7 +188,7 @@ class Language(unittest.TestCase):
                 drawn.pop(name)
 
     def test_checkers_seek_no_way_and_thin_no_net(self):
-        for name in ("checking", "pairchecking"):
+        for name in ("checking", "pairchecking", "breakchecking", "cases"):
             body = ast.parse((PACKAGE / f"{name}.py").read_text()).body
             names = {alias.name for node in body if isinstance(node, ast.ImportFrom) for alias in node.names}
             self.assertFalse(names & set(SEEKING), name)

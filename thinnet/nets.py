@@ -111,8 +111,8 @@ def ahead_of(net, tie):
     return only(net, [other for other in net[1] if rank_of(other) < rank_of(tie)])
 
 
-def without(net, tie):
-    return only(net, [other for other in net[1] if other != tie])
+def without(net, ties):
+    return only(net, [tie for tie in net[1] if tie not in ties])
 
 
 def left_out(net, thin):

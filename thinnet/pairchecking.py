@@ -54,6 +54,6 @@ def lets_pairs(net, times, pairs, thin, paper):
         if not is_shown(net, times, pair, thin, paper[0][number]):
             raise NoPaper("pair", number)
     for number, tie in enumerate(order_of(thin[1])):
-        if not is_needed(net, times, pairs, without(thin, tie), paper[1][number]):
+        if not is_needed(net, times, pairs, without(thin, [tie]), paper[1][number]):
             raise NoPaper("tie", number)
     return True

@@ -29,7 +29,7 @@ def thinned_for_pairs(net, times, pairs):
     lengths = lengths_of(net, pairs)
     thin = only(net, net[1])
     for tie in reversed(order_of(net[1])):
-        less = without(thin, tie)
+        less = without(thin, [tie])
         if first_lost(times, pairs, lengths, less) is None:
             thin = less
     return thin
@@ -54,5 +54,5 @@ def pairs_paper(net, times, pairs):
     thin = thinned_for_pairs(net, times, pairs)
     lengths = lengths_of(net, pairs)
     shown = [shown_of(net, thin, a, b) for a, b in pairs]
-    needed = [needed_of(net, times, pairs, lengths, without(thin, tie)) for tie in order_of(thin[1])]
+    needed = [needed_of(net, times, pairs, lengths, without(thin, [tie])) for tie in order_of(thin[1])]
     return (tuple(shown), tuple(needed))

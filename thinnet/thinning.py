@@ -2,7 +2,7 @@
 
 from thinnet.nets import ahead_of, left_out, only, order_of
 from thinnet.prices import prices_from
-from thinnet.ways import far, way_of
+from thinnet.ways import length_of, way_of
 
 
 def is_within(length, times, number):
@@ -14,15 +14,18 @@ def least_beyond(times, number):
     return number * times[0] // times[1] + 1
 
 
-def has_near_way(net, times, tie):
-    length = far(net, tie[0], tie[1])
-    return length is not None and is_within(length, times, tie[2])
+# A way between the tie's places, within times of its length, or None where there is none.
+def near_way(net, times, tie):
+    way = way_of(net, tie[0], tie[1])
+    if way is None or not is_within(length_of(net, way), times, tie[2]):
+        return None
+    return way
 
 
 def thinned(net, times):
     kept = []
     for tie in order_of(net[1]):
-        if not has_near_way(only(net, kept), times, tie):
+        if near_way(only(net, kept), times, tie) is None:
             kept.append(tie)
     return only(net, kept)
 
@@ -42,7 +45,5 @@ def greedy_paper(net, times):
 
 
 def ways_paper(net, times, thin):
-    out = left_out(net, thin)
-    if not all([has_near_way(thin, times, tie) for tie in out]):
-        return None
-    return tuple([way_of(thin, a, b) for a, b, length in out])
+    ways = [near_way(thin, times, tie) for tie in left_out(net, thin)]
+    return None if None in ways else tuple(ways)

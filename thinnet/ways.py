@@ -28,6 +28,12 @@ def length_between(net, a, b, thing):
     return length
 
 
+# The ties that a way of the net goes over, step by step.
+def ties_over(net, way):
+    steps = steps_of(net)
+    return [(min(here, there), max(here, there), steps[here][there]) for here, there in zip(way, way[1:])]
+
+
 def nearest_of(waiting, found):
     return min([(found[place][0], place) for place in waiting])[1]
 
@@ -74,7 +80,7 @@ def round_of(net):
     alike = only(net, [(a, b, 1) for a, b, length in net[1]])
     fewest = None
     for tie in alike[1]:
-        way = way_of(without(alike, tie), tie[0], tie[1])
+        way = way_of(without(alike, [tie]), tie[0], tie[1])
         if way is not None and (fewest is None or len(way) < len(fewest)):
             fewest = way
     return fewest
