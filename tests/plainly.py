@@ -1,5 +1,6 @@
 """The document's points told once more, by other means than the program's, for tests to hold it against."""
 
+import re
 from fractions import Fraction
 from functools import lru_cache
 from itertools import combinations, permutations, product
@@ -367,3 +368,56 @@ def is_least_plainly(net, times, thing):
     if not is_of_kind(tuple, 3, thing) or judged_ways(net, times, thing[0], thing[1]) is not True:
         return False
     return shows_plainly(net, times, len(thing[0][1]), thing[2])
+
+
+def composed_plainly(net, thin, thinner, ways, more):
+    """What point 51 tells, step by step, both ways about."""
+    first = dict(zip(out_of(net, thin), ways))
+    steps = {}
+    for (a, b, length), way in zip(out_of(thin, thinner), more):
+        steps[(a, b)] = list(way)
+        steps[(b, a)] = list(way)[::-1]
+
+    def way_by(tie):
+        if tie not in first:
+            return tuple(steps[tie[:2]])
+        told = []
+        for step in zip(first[tie], first[tie][1:]):
+            told = told[:-1] + steps.get(step, list(step))
+        return tuple(told)
+
+    return tuple(way_by(tie) for tie in out_of(net, thinner))
+
+
+def can_stand(number, words, places, ties):
+    """Whether the word of this number can stand there by what stands ahead of it; None is for no word."""
+    if number == 0:
+        if words[0] == "place":
+            return not ties and len(places) < 24
+        return words[0] == "tie" and len(ties) < 60
+    if words[0] == "place":
+        name = re.fullmatch("[a-z]{1,8}", words[1])
+        return {1: name is not None and all(place < words[1] for place in places)}.get(number, False)
+    if number == 1:
+        return words[1] in places
+    if number == 2:
+        return words[2] in places and words[1] < words[2] and all(tie[:2] < (words[1], words[2]) for tie in ties)
+    return number == 3 and re.fullmatch("[1-9][0-9]{0,5}|1000000", words[3]) is not None
+
+
+def read_plainly(lines):
+    """What point 60 tells: a net, or the row and the word of the refusal."""
+    places = []
+    ties = []
+    for row, line in enumerate(lines):
+        words = re.split(" ", line)
+        for number in range(len(words)):
+            if not can_stand(number, words, places, ties):
+                return [row, number]
+        if len(words) != {"place": 2, "tie": 4}[words[0]]:
+            return [row, len(words)]
+        if words[0] == "place":
+            places.append(words[1])
+        else:
+            ties.append((words[1], words[2], int(words[3])))
+    return (tuple(places), tuple(ties))

@@ -21,7 +21,22 @@ FUNCTIONS = {
     "breakchecking": {"lets_breaking": 5},
     "least": {"least_thin": 2},
     "cases": {"shows": 4, "is_least": 3},
+    "twice": {"product": 2, "composed": 5, "is_no_stricter": 2},
+    "keeper": {"Keeper": 1, "taken_up": 2},
+    "nettexts": {"shown": 1, "read_net": 1},
+    "desk": {"Desk": 1},
 }
+METHODS = {
+    ("keeper", "Keeper"): {"come": 1, "go": 1, "lay": 3, "take": 2, "net": 0, "thin": 0, "far": 2, "lines": 0},
+    ("desk", "Desk"): {"say": 1},
+}
+
+
+def takes(test, function, many):
+    """It takes just so many arguments by place."""
+    inspect.signature(function).bind(*[None] * many)
+    with test.assertRaises(TypeError):
+        inspect.signature(function).bind(*[None] * (many + 1))
 
 
 class Interface(unittest.TestCase):
@@ -31,9 +46,13 @@ class Interface(unittest.TestCase):
             for name, many in functions.items():
                 function = getattr(found, name)
                 self.assertEqual(function.__module__, found.__name__)
-                inspect.signature(function).bind(*[None] * many)
-                with self.assertRaises(TypeError):
-                    inspect.signature(function).bind(*[None] * (many + 1))
+                takes(self, function, many)
+
+    def test_methods(self):
+        for (module, name), methods in METHODS.items():
+            kept = getattr(importlib.import_module(f"thinnet.{module}"), name)((3, 2))
+            for method, many in methods.items():
+                takes(self, getattr(kept, method), many)
 
 
 if __name__ == "__main__":

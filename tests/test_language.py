@@ -33,8 +33,8 @@ WALKERS = "list tuple dict sorted sum any all enumerate zip min max join".split(
 KEYWORDS = [("sorted", "key"), ("sorted", "reverse"), ("min", "key"), ("max", "key"), ("min", "default"),
             ("max", "default"), ("sum", "start"), ("enumerate", "start"), ("zip", "strict")]
 SEEKING = """far way_of round_of least_ways prices_from thinned greedy_paper ways_paper least_tree tree_paper tree_from
-    light_tree keeps_pairs thinned_for_pairs pairs_paper near_way broken_of steady_thinned bush_of breaking_paper fewest_of
-    least_thin""".split()
+    light_tree keeps_pairs thinned_for_pairs pairs_paper near_way broken_of steady_thinned bush_of breaking_paper
+    fewest_of least_thin""".split()
 
 
 def files():
@@ -159,6 +159,26 @@ class Language(unittest.TestCase):
             if isinstance(node, ast.Call) and isinstance(node.func, ast.Attribute):
                 self.assertTrue(node.func.attr in METHODS or node.func.attr in own, (where, node.func.attr))
 
+    def test_no_name_is_a_method_and_a_value(self):
+        methods = [part.name for where, node in self.walk() if isinstance(node, ast.ClassDef) for part in node.body
+                   if isinstance(part, ast.FunctionDef)]
+        values = {node.attr for where, node in self.walk()
+                  if isinstance(node, ast.Attribute) and isinstance(node.ctx, ast.Store)}
+        self.assertFalse(values & set(methods))
+        self.assertFalse(values & set(METHODS))
+        own = {name for kind in (str, int, list, dict, set, bytes, tuple) for name in dir(kind)}
+        self.assertFalse((values | set(methods) - set(DOUBLE)) & own)
+
+    def test_lists_and_dicts_of_a_files_top_are_only_read(self):
+        for path in files():
+            tree = ast.parse(path.read_text())
+            kept = [name for node in tree.body if isinstance(node, ast.Assign) for part in node.targets
+                    for name in bound_names(part) if isinstance(node.value, (ast.List, ast.Dict))]
+            for node in ast.walk(tree):
+                for child in ast.iter_child_nodes(node):
+                    if isinstance(child, ast.Name) and child.id in kept and isinstance(child.ctx, ast.Load):
+                        self.assertIsInstance(node, (ast.Subscript, ast.Compare), (path.name, child.lineno))
+
     def test_is_stands_beside_none_and_truths(self):
         for where, node in self.walk():
             if isinstance(node, ast.Compare):
@@ -171,9 +191,11 @@ class Language(unittest.TestCase):
             body = ast.parse(path.read_text()).body
             taken = [alias.name for node in body if isinstance(node, ast.ImportFrom) for alias in node.names]
             taken += [node.name for node in body if isinstance(node, ast.ClassDef)]
+            # A method may be called like an import.
+            methods = [part for node in body if isinstance(node, ast.ClassDef) for part in node.body]
             for top in body:
                 for node in ast.walk(top):
-                    if node is not top:
+                    if node is not top and node not in methods:
                         self.assertFalse(set(bound_names(node)) & set(taken), (path.name, node.__class__))
 
     def test_no_two_files_draw_from_one_another(self):

@@ -8,12 +8,8 @@ MOST_DEEP = 15
 MOST_CASES = 4000
 
 
-def is_tie_among(net, ties, thing):
-    return is_tie_of(net, thing) and thing in ties
-
-
 def shows_far(net, times, out, thing):
-    if not is_tie_among(net, out, thing[1]):
+    if not is_tie_of(net, thing[1]) or thing[1] not in out:
         return False
     return prices_fault(without(net, out), times, thing[1], thing[2]) is None
 
