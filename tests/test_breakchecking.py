@@ -7,7 +7,6 @@ from samples import (
 )
 from thinnet.breakchecking import lets_breaking
 from thinnet.nets import only
-from thinnet.prices import prices_from
 from thinnet.steady import breaking_paper, steady_thinned
 from thinnet.ways import way_of
 
@@ -245,6 +244,30 @@ class ByHand(Answers):
             ((("a", "d", 1), ("d", "e", 1)), ("in", 6)), ((("b", "d", 1), ("a", "d", 1)), ("in", 6)),
         ):
             self.says(right, put(paper, 6, ("in", broken, (0, 0, 0, 3, 0))), FIVE, FIVE, (2, 1), 2)
+
+    def test_bushes_of_two_broken(self):
+        # From a to b lead acb of 6, adb of 8 and aeb of 10: whichever two ties break, one of them is left.
+        ties = (("a", "b", 6), ("a", "c", 3), ("a", "d", 4), ("a", "e", 5), ("b", "c", 3), ("b", "d", 4), ("b", "e", 5))
+        net = (("a", "b", "c", "d", "e"), ties)
+        thin = (net[0], ties[1:])
+        told = breaking_paper(net, (10, 6), 2)
+        self.assertEqual(steady_thinned(net, (10, 6), 2), thin)
+        acb, adb, aeb = (("a", place, "b") for place in "cde")
+        last = (aeb, ())
+        inner = (adb, (last, last))
+        self.says(True, put(told, 6, ("out", (acb, (inner, inner)))), thin, net, (10, 6), 2)
+        other = (aeb, ((adb, ()), (adb, ())))
+        self.says(True, put(told, 6, ("out", (acb, (inner, other)))), thin, net, (10, 6), 2)
+        self.says(True, put(told, 6, ("out", (aeb, (((acb, ((adb, ()),) * 2),) * 2)))), thin, net, (10, 6), 2)
+        for wrong in (
+            (adb, (last, (acb, ()))), (adb, ((adb, ()), last)), (adb, (last,)), (adb, ()), (adb, (last, last, last)),
+            (adb, (last, (aeb, (last,)))), (acb, (last, last)), (adb, (last, None)), (adb, (last, ("a", "e"))),
+            (adb, [last, last]), (adb, (last, [aeb, ()])), (adb, (last, (aeb, []))), last,
+        ):
+            self.says(("out", 6), put(told, 6, ("out", (acb, (wrong, inner)))), thin, net, (10, 6), 2)
+        # The first tie taken away is gone from the whole bush of its step, not from that of the other one.
+        self.says(("out", 6), put(told, 6, ("out", (acb, (inner, (adb, (last, (acb, ()))))))), thin, net, (10, 6), 2)
+        self.says(("out", 6), put(told, 6, ("out", (acb, (inner, inner)))), thin, net, (999999, 600000), 2)
 
     def test_first_of_several(self):
         wrong = ("in", None, None)
